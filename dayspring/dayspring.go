@@ -4,6 +4,8 @@ package dayspring
 import (
 	"dayspring/api"
 	"dayspring/disk"
+	"dayspring/script"
+	"dayspring/world"
 )
 
 // Disk has sectors.
@@ -51,31 +53,48 @@ func (d *Disk) On() bool { return d.inside().On() }
 func (d *Disk) Writes() int { return d.inside().Writes() }
 
 // Check looks at a script (P5).
-func Check(script string) api.Errno { return api.OK }
+func Check(text string) api.Errno { return script.Check(text) }
 
 // World is one.
-type World struct{}
+type World struct {
+	inner *world.World
+}
 
 // Found founds a world on a disk (P6).
-func Found(d *Disk) (*World, api.Errno) { return nil, api.OK }
+func Found(d *Disk) (*World, api.Errno) {
+	inner, e := world.Found(d.inside())
+	if e != api.OK {
+		return nil, e
+	}
+	return &World{inner: inner}, api.OK
+}
 
 // Return gives the world that is on a disk (P8).
 func Return(d *Disk) (*World, api.Errno) { return nil, api.OK }
 
+// inside stands in for a world that Found did not give, so that no call on it panics:
+// it has no disk, no cells and no texts.
+func (w *World) inside() *world.World {
+	if w == nil || w.inner == nil {
+		return &world.World{}
+	}
+	return w.inner
+}
+
 // Load gives a world a script (P6).
-func (w *World) Load(script string) api.Errno { return api.OK }
+func (w *World) Load(script string) api.Errno { return w.inside().Load(script) }
 
 // Tick runs the script (P6).
-func (w *World) Tick(input int64) (api.Told, api.Errno) { return api.Told{}, api.OK }
+func (w *World) Tick(input int64) (api.Told, api.Errno) { return w.inside().Tick(input) }
 
 // Save makes all deeds safe (P6).
-func (w *World) Save() api.Errno { return api.OK }
+func (w *World) Save() api.Errno { return w.inside().Save() }
 
 // Cell tells what a cell holds (P7).
-func (w *World) Cell(n int) (int64, api.Errno) { return 0, api.OK }
+func (w *World) Cell(n int) (int64, api.Errno) { return w.inside().Cell(n) }
 
 // Text tells what a text holds (P7).
-func (w *World) Text(n int) (string, api.Errno) { return "", api.OK }
+func (w *World) Text(n int) (string, api.Errno) { return w.inside().Text(n) }
 
 // Deeds tells how many there were (P7).
-func (w *World) Deeds() int { return 0 }
+func (w *World) Deeds() int { return w.inside().Deeds() }

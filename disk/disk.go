@@ -31,6 +31,7 @@ type Disk struct {
 	fuse     *fuse // nil, if none lies ahead
 	on       bool
 	writes   int
+	claim    int // the last one; a restart counts as one that nobody has
 }
 
 // New gives a disk that has power, all of its bytes 0.
@@ -97,7 +98,18 @@ func (d *Disk) Restart() {
 		d.fail(0, 0)
 	}
 	d.on = true
+	d.claim++
 }
+
+// Claim gives the disk to who asks for it, and takes it from who had it before.
+func (d *Disk) Claim() int {
+	d.claim++
+	return d.claim
+}
+
+// Holds tells whether the disk has had power all the time since that claim, without a
+// restart, and nobody else has claimed it.
+func (d *Disk) Holds(claim int) bool { return d.on && d.claim == claim }
 
 // On tells whether the disk has power.
 func (d *Disk) On() bool { return d.on }
