@@ -70,9 +70,15 @@ func Found(d *Disk) (*World, api.Errno) {
 }
 
 // Return gives the world that is on a disk (P8).
-func Return(d *Disk) (*World, api.Errno) { return nil, api.OK }
+func Return(d *Disk) (*World, api.Errno) {
+	inner, e := world.Return(d.inside())
+	if e != api.OK {
+		return nil, e
+	}
+	return &World{inner: inner}, api.OK
+}
 
-// inside stands in for a world that Found did not give, so that no call on it panics:
+// inside stands in for a world that neither Found nor Return gave, so that no call on it panics:
 // it has no disk, no cells and no texts.
 func (w *World) inside() *world.World {
 	if w == nil || w.inner == nil {

@@ -48,7 +48,6 @@ func TestP1CallsOnNoWorld(t *testing.T) {
 		if w != nil || e != api.ErrPower {
 			t.Errorf("Found on no disk = %v, %d", w, e)
 		}
-		dayspring.Return(d)
 	}
 	for _, w := range []*dayspring.World{nil, {}} {
 		wantErrno(t, "Load of a wrong script", w.Load(code(25)), api.ErrScript)
@@ -308,23 +307,40 @@ func TestP6TheDiskIsGone(t *testing.T) {
 		{"another world", func(d *dayspring.Disk) { dayspring.Found(d) }},
 		{"two other worlds", func(d *dayspring.Disk) { dayspring.Found(d); dayspring.Found(d) }},
 		{"another world, restarted", func(d *dayspring.Disk) { dayspring.Found(d); d.Restart() }},
+		{"returned to", func(d *dayspring.Disk) { dayspring.Return(d) }},
+		{"returned to twice", func(d *dayspring.Disk) { dayspring.Return(d); dayspring.Return(d) }},
+		{"restarted, returned to", func(d *dayspring.Disk) { d.Restart(); dayspring.Return(d) }},
+		{"no power by a Return", func(d *dayspring.Disk) { d.Fuse(0, 0, 0); dayspring.Return(d) }},
+		{"no power by a Found", func(d *dayspring.Disk) { d.Fuse(1, 0, 0); dayspring.Found(d) }},
 	} {
-		d := newDisk(t, 48)
-		w := foundOn(t, d)
-		w.Load(count)
-		wantTick(t, w, 0, 0, 1)
-		wantErrno(t, "Save", w.Save(), api.OK)
-		wantTick(t, w, 0, 0, 2)
-		c.lose(d)
-		wantGone(t, w, c.what)
-		d.Restart()
-		wantGone(t, w, c.what+", and a restart")
-		if next := foundOn(t, d); next != nil {
+		for _, returned := range []bool{false, true} {
+			d := newDisk(t, 48)
+			w := foundOn(t, d)
+			w.Load(count)
+			wantTick(t, w, 0, 0, 1)
+			wantErrno(t, "Save", w.Save(), api.OK)
+			if returned {
+				w = returnTo(t, d)
+			}
+			wantTick(t, w, 0, 0, 2)
+			c.lose(d)
+			wantGone(t, w, c.what)
+			d.Restart()
+			wantGone(t, w, c.what+", and a restart")
+			next := foundOn(t, d)
 			next.Load(count)
 			wantTick(t, next, 0, 0, 1)
+			wantErrno(t, "Save", next.Save(), api.OK)
+			writes := d.Writes()
+			wantGone(t, w, c.what+", and another world")
+			wantCell(t, w, 0, 2)
+			if d.Writes() != writes {
+				t.Errorf("%s: it writes on the other world's disk", c.what)
+			}
+			wantTick(t, next, 0, 0, 2)
+			wantCell(t, returnTo(t, d), 0, 1)
+			wantGone(t, w, c.what+", and a Return to another world")
 		}
-		wantGone(t, w, c.what+", and another world")
-		wantCell(t, w, 0, 2)
 	}
 }
 
@@ -339,11 +355,31 @@ func TestP6TheDiskIsThere(t *testing.T) {
 	d.Write(48, full('a'))
 	d.Write(0, "a")
 	dayspring.Found(nil)
+	dayspring.Return(nil)
 	foundOn(t, newDisk(t, 48))
+	dayspring.Return(newDisk(t, 48))
 	wantTick(t, w, 0, 0, 1)
 	wantErrno(t, "Save", w.Save(), api.OK)
 	wantErrno(t, "Load", w.Load(""), api.OK)
 	wantTick(t, w, 0, 0)
+}
+
+// A Return that finds no world, as others have written there, takes the disk from nobody.
+func TestP6NoWorldWasReturnedTo(t *testing.T) {
+	for c := range 256 {
+		d := newDisk(t, 48)
+		w := foundOn(t, d)
+		w.Load(count)
+		for i := range 48 {
+			d.Write(i, full(byte(c)))
+		}
+		if _, e := dayspring.Return(d); e == api.ErrNone {
+			wantTick(t, w, 0, 0, 1)
+			wantErrno(t, "Save", w.Save(), api.OK)
+		} else {
+			wantGone(t, w, "returned to some world")
+		}
+	}
 }
 
 func TestP6SaveWithoutPower(t *testing.T) {
@@ -354,6 +390,29 @@ func TestP6SaveWithoutPower(t *testing.T) {
 	d.Fuse(0, 0, 0)
 	wantErrno(t, "Save by which the power fails", w.Save(), api.ErrDisk)
 	wantGone(t, w, "a Save that was not OK")
+}
+
+func TestP6SaveIsSafe(t *testing.T) {
+	d := newDisk(t, 48)
+	w := foundOn(t, d)
+	for _, saves := range []int{1, 2, 5} {
+		w.Load(count)
+		for range saves {
+			w.Tick(0)
+			wantErrno(t, "Save", w.Save(), api.OK)
+			wantErrno(t, "Save with nothing new", w.Save(), api.OK)
+		}
+		cell, _ := w.Cell(0)
+		deeds := w.Deeds()
+		failNow(d, 0, 0)
+		d.Restart()
+		w = returnTo(t, d)
+		wantCell(t, w, 0, cell)
+		if w.Deeds() != deeds {
+			t.Errorf("%d deeds came back, %d were saved", w.Deeds(), deeds)
+		}
+		wantTick(t, w, 0, 0, cell+1)
+	}
 }
 
 func TestP7CellsAndTextsThatThereAreNot(t *testing.T) {

@@ -59,6 +59,17 @@ func NewMemory() Memory {
 	return Memory{cells: newRow[int64](api.Cells), texts: newRow[words](api.Texts)}
 }
 
+// MemoryOf gives a memory that holds this. A text must have room for its bytes.
+func MemoryOf(cells [api.Cells]int64, texts [api.Texts]string) Memory {
+	m := NewMemory()
+	copy(m.cells.now, cells[:])
+	for n, text := range texts {
+		t := &m.texts.now[n]
+		t.size = copy(t.bytes[:], text)
+	}
+	return m
+}
+
 // Cell tells what a cell holds.
 func (m *Memory) Cell(n int) (int64, api.Errno) {
 	if !m.cells.has(n) {

@@ -7,28 +7,49 @@ import (
 	"dayspring/api"
 	"dayspring/disk"
 	"dayspring/script"
+	"dayspring/store"
 )
 
 // World has a script, and the memory that its runs change. The zero one has no disk.
 type World struct {
-	disk   *disk.Disk
-	claim  int
+	store  *store.Store
 	script string
 	memory script.Memory
 	deeds  int
+	news   []int64 // the inputs of the ticks since the last Save
+	redraw bool    // whether the next Save needs a picture, as news do not tell all
 }
 
 // Found gives a new world on a disk.
 func Found(d *disk.Disk) (*World, api.Errno) {
-	if d.Sync() != api.OK {
-		return nil, api.ErrPower
+	w := &World{memory: script.NewMemory()}
+	s, e := store.Found(d, w.picture())
+	if e != api.OK {
+		return nil, e
 	}
-	return &World{disk: d, claim: d.Claim(), memory: script.NewMemory()}, api.OK
+	w.store = s
+	return w, api.OK
 }
 
-// holds tells whether the disk is still this world's. Once it is not, it never is again:
-// a disk that has lost its power gets it back by a restart alone.
-func (w *World) holds() bool { return w.disk != nil && w.disk.Holds(w.claim) }
+// Return gives the world that is on a disk.
+func Return(d *disk.Disk) (*World, api.Errno) {
+	s, e := store.Find(d)
+	if e != api.OK {
+		return nil, e
+	}
+	w, right := pictured(s.Picture())
+	if !right {
+		return nil, api.ErrNone
+	}
+	for _, input := range s.Inputs() {
+		w.run(input)
+	}
+	s.Claim()
+	w.store = s
+	return w, api.OK
+}
+
+func (w *World) holds() bool { return w.store != nil && w.store.Holds() }
 
 // Load gives the world a script.
 func (w *World) Load(text string) api.Errno {
@@ -40,6 +61,7 @@ func (w *World) Load(text string) api.Errno {
 	}
 	w.script = strings.Clone(text)
 	w.deeds++
+	w.redraw = true
 	return api.OK
 }
 
@@ -48,16 +70,39 @@ func (w *World) Tick(input int64) (api.Told, api.Errno) {
 	if !w.holds() {
 		return api.Told{}, api.ErrDisk
 	}
-	w.deeds++
-	return w.memory.Run(w.script, input), api.OK
+	w.note(input)
+	return w.run(input), api.OK
 }
 
-// Save syncs the disk. Deeds are not written there yet.
+func (w *World) run(input int64) api.Told {
+	w.deeds++
+	return w.memory.Run(w.script, input)
+}
+
+// note keeps an input for the next Save, unless that needs a picture, or comes to need one
+// as the disk has no room for the input.
+func (w *World) note(input int64) {
+	w.redraw = w.redraw || len(w.news) == w.store.Room()
+	if !w.redraw {
+		w.news = append(w.news, input)
+	}
+}
+
+// Save makes all deeds safe.
 func (w *World) Save() api.Errno {
-	if !w.holds() || w.disk.Sync() != api.OK {
+	if !w.holds() || w.keep() != api.OK {
 		return api.ErrDisk
 	}
+	w.news = nil
+	w.redraw = false
 	return api.OK
+}
+
+func (w *World) keep() api.Errno {
+	if w.redraw {
+		return w.store.Redraw(w.picture())
+	}
+	return w.store.Add(w.news)
 }
 
 // Cell tells what a cell holds.
